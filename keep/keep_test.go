@@ -250,6 +250,13 @@ func TestPlayCommit(t *testing.T) { // P17.2
 			t.Error(next, g, e)
 		}
 	}
+	// What is gone, and what names it no more.
+	top := api.Node{Ino: 1, Kind: api.Dir, L: []api.Entry{{Name: "d", Ino: 3}}}
+	off := []api.Change{{Ino: 1, Node: top}, {Ino: 2, Gone: true}}
+	want.S = store.Install(h.S, off, 4)
+	if g, e := keep.Play(h, keep.Change(m, off, 4)); e != api.OK || !host.Same(g, want) || len(last(g).L) != 2 {
+		t.Error(g, e)
+	}
 	// What was decided already stays so; the changes are installed.
 	want = h
 	want.S = store.Install(h.S, l, 4)
@@ -450,6 +457,17 @@ func TestPack(t *testing.T) { // P17.4
 		}
 		g = x
 	}
+	// A head whose place and number need more than a byte.
+	far := blank(t, 600)
+	far.Kept[0] = head(300, 0x8877665544332211)
+	g, e = keep.Recover(far, 5)
+	if e != api.OK || g.L != (api.Log{At: 300, First: 0x8877665544332211}) {
+		t.Error(g.L, e)
+	}
+	g = says(t, g, msg(api.MAsk, 1), api.ErrAgain)
+	if g, e = keep.Pack(g); e != api.OK || g.L.At != 301 || g.L.First != 0x8877665544332212 || g.D.Kept[0] != head(301, 0x8877665544332212) {
+		t.Error(g.L, e)
+	}
 	// No room; too great.
 	full := says(t, says(t, fresh(t, 3), msg(api.MAsk, 1), api.ErrAgain), msg(api.MAsk, 2), api.ErrAgain)
 	if x, e := keep.Pack(full); e != api.ErrRoom || !keep.Same(x, full) {
@@ -599,7 +617,7 @@ func TestWhatFollows(t *testing.T) { // P17.5
 func TestReplayedLikeServed(t *testing.T) { // P17.5
 	s := store.New()
 	k := fresh(t, 60)
-	for i, l := range [][]api.Call{{create("a"), write(2, "x")}, {create("b"), {Kind: api.CRemove, Ino: 1, Name: "b"}}, {{Kind: api.CRead, Ino: 2}}, {{Kind: api.CRename, Ino: 1, Name: "a", To: 1, Name2: "c"}}} {
+	for i, l := range [][]api.Call{{create("a"), write(2, "x")}, {create("b"), {Kind: api.CRemove, Ino: 1, Name: "b"}}, {{Kind: api.CRead, Ino: 2}}, {create("g"), create("h")}, {{Kind: api.CRemove, Ino: 1, Name: "g"}}, {{Kind: api.CRename, Ino: 1, Name: "a", To: 1, Name2: "c"}}} {
 		k = committed(t, k, i+1, l...)
 		s, _ = trans.Run(s, l)
 		r, e := keep.Recover(disk.Crash(k.D, nil), 5)

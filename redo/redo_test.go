@@ -233,12 +233,17 @@ func TestScan(t *testing.T) { // P5.2
 			t.Error(i, m, l, e)
 		}
 	}
-	// A record whose end would stand over its own beginning does not stand whole.
-	x := record(3, long(60))
-	d, _, _ = begin(t, 0, 1, 0, 3)
-	d, e := disk.Write(d, 0, x[:64])
-	if m, l, f := redo.Scan(d, api.Ring{From: 0, Many: 1}, 0, 3); e != api.OK || m.Many != 0 || len(l) != 0 || f != api.OK {
-		t.Error(m, l, e, f)
+	// A record that needs more than the ring has does not stand, wherever in it the ring ends.
+	for bytes := 52; bytes < 64; bytes++ {
+		x := record(3, long(bytes))
+		d, _, _ := begin(t, 0, 1, 0, 3)
+		d, e := disk.Write(d, 0, x[:64])
+		if m, l, f := redo.Scan(d, api.Ring{From: 0, Many: 1}, 0, 3); e != api.OK || m != (api.Log{First: 3}) || len(l) != 0 || f != api.OK {
+			t.Error(bytes, m, l, e, f)
+		}
+		if redo.Right(d, api.Ring{From: 0, Many: 1}, api.Log{Used: 1, First: 3, Many: 1}) {
+			t.Error(bytes, "right, though its end is missing")
+		}
 	}
 }
 
